@@ -177,6 +177,11 @@ func (w *writer) program() []byte {
 	w.add(api.Ret)
 	w.rows(codeWords - 1)
 	w.add(api.Jmp, 0, serves+1-(codeWords-1))
+	return w.bytes()
+}
+
+// bytes are those of what is written.
+func (w *writer) bytes() []byte {
 	var b []byte
 	for _, x := range w.l {
 		b = append(b, code.Put(x)...)
